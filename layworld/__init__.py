@@ -1,0 +1,1 @@
+"""Layworld: small worlds laid together, and the world that is grown by all wishes."""

@@ -1,0 +1,83 @@
+"""Rules and worlds that the tests share, and plain slow answers to hold the program's against."""
+
+import itertools
+
+# one mark, one way
+GRAY = (("dot",), (("near", 0),), ())
+# one mark, two ways that are their own way back
+GRAPH = (("dot",), (("near", 0), ("far", 1)), ())
+# one mark, two ways that are each other's way back
+ORDER = (("dot",), (("below", 1), ("above", 0)), ())
+# two marks, a way of its own and two that are each other's, either way round
+MIXED = (("red", "blue"), (("near", 0), ("below", 2), ("above", 1)), ())
+TURNED = (("red", "blue"), (("below", 1), ("above", 0), ("near", 2)), ())
+# three marks, two ways
+COLOURS = (("red", "green", "blue"), (("below", 1), ("above", 0)), ())
+PLAIN = (GRAY, GRAPH, ORDER, MIXED, TURNED, COLOURS)
+
+
+def shaped(marks, backs, barred=()):
+    """A rule of so many marks, and of ways with these ways back."""
+    names = tuple("m" + "abc"[number] for number in range(marks))
+    ways = tuple(("w" + "abc"[number], back) for number, back in enumerate(backs))
+    return (names, ways, tuple(barred))
+
+
+def all_shapes():
+    """A rule of every count of marks, and every kind of ways, that the bounds let by."""
+    backs = [(0,), (0, 1), (1, 0), (0, 1, 2), (1, 0, 2), (0, 2, 1)]
+    return [shaped(marks, own) for marks in (1, 2, 3) for own in backs if marks * len(own) <= 6]
+
+
+def with_barred(rule, barred):
+    return (rule[0], rule[1], tuple(barred))
+
+
+def slow_way(rule, world, i, j):
+    """By a table of all pairs of points."""
+    table = {}
+    for number, (mark, ways) in enumerate(world):
+        for other, there in enumerate(ways):
+            table[number, other] = there
+            table[other, number] = rule[1][there][1]
+    return table[i, j]
+
+
+def slow_part(rule, world, points):
+    built = []
+    for place in range(len(points)):
+        ways = tuple(slow_way(rule, world, points[place], points[k]) for k in range(place))
+        built.append((world[points[place]][0], ways))
+    return tuple(built)
+
+
+def slow_least_form(rule, world):
+    orders = itertools.permutations(range(len(world)))
+    return min(slow_part(rule, world, order) for order in orders)
+
+
+def worlds_of(rule, size):
+    """All worlds of so many points, by the rule's marks and ways."""
+    found = [()]
+    for ahead in range(size):
+        rows = list(itertools.product(range(len(rule[1])), repeat=ahead))
+        points = [(mark, row) for mark in range(len(rule[0])) for row in rows]
+        found = [world + (point,) for world in found for point in points]
+    return found
+
+
+def some_world(rule, size, seed):
+    """A world of so many points, its numbers mixed by the seed, the same each time."""
+    state = seed * 7919 + 12345
+    world = []
+    for ahead in range(size):
+        numbers = []
+        for bound in [len(rule[0])] + [len(rule[1])] * ahead:
+            state = (state * 1103515245 + 12345) & 0x7FFFFFFF
+            numbers.append((state >> 16) % bound)
+        world.append((numbers[0], tuple(numbers[1:])))
+    return tuple(world)
+
+
+# things of the kinds that may be handed in where anything may, none of them a tuple
+NO_TUPLES = (None, True, False, 0, 1, -1, 3, "", "a", "marks", [], [()], [(), (), ()], ["a"])
