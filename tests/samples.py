@@ -1,6 +1,8 @@
 """Rules and worlds that the tests share, and plain slow answers to hold the program's against."""
 
+import functools
 import itertools
+import random
 
 # one mark, one way
 GRAY = (("dot",), (("near", 0),), ())
@@ -51,9 +53,33 @@ def slow_part(rule, world, points):
     return tuple(built)
 
 
+@functools.lru_cache(maxsize=None)
 def slow_least_form(rule, world):
     orders = itertools.permutations(range(len(world)))
     return min(slow_part(rule, world, order) for order in orders)
+
+
+@functools.lru_cache(maxsize=None)
+def slow_figures(rule):
+    """All figures of the rule's marks and ways, sorted, a tuple."""
+    return tuple(sorted(set(slow_least_form(rule, three) for three in worlds_of(rule, 3))))
+
+
+def slow_barred(rule, world):
+    """All rising threes of points whose figure is barred, in order."""
+    threes = itertools.combinations(range(len(world)), 3)
+    return [three for three in threes if slow_least_form(rule, slow_part(rule, world, three)) in rule[2]]
+
+
+def slow_stands(rule, world):
+    return slow_barred(rule, world) == []
+
+
+def slow_wishes(rule, world):
+    """All wishes that may stand over the world, sorted."""
+    rows = itertools.product(range(len(rule[1])), repeat=len(world))
+    points = itertools.product(range(len(rule[0])), rows)
+    return sorted(point for point in points if slow_stands(rule, world + (point,)))
 
 
 def worlds_of(rule, size):
@@ -77,6 +103,52 @@ def some_world(rule, size, seed):
             numbers.append((state >> 16) % bound)
         world.append((numbers[0], tuple(numbers[1:])))
     return tuple(world)
+
+
+def standing_worlds(rule, size):
+    """All worlds of so many points that may stand, by the rule."""
+    found = [()]
+    for ahead in range(size):
+        found = [world + (point,) for world in found for point in slow_wishes(rule, world)]
+    return found
+
+
+def some_standing(rule, size, seed):
+    """A world of so many points that may stand, or of fewer where no more may come; the same each time."""
+    chance = random.Random(seed)
+    world = ()
+    for ahead in range(size):
+        points = slow_wishes(rule, world)
+        if points:
+            world += (points[int(chance.random() * len(points))],)
+    return world
+
+
+def mixed_bars(rule, seed, share):
+    """The rule with about so many of a hundred of its figures barred, mixed by the seed, the same each time."""
+    chance = random.Random(seed)
+    return with_barred(rule, [figure for figure in slow_figures(rule) if chance.random() * 100 < share])
+
+
+# figures of one mark and two ways that are their own way back, by how many are near (way 0) among the three
+NEAR = (
+    ((0, ()), (0, (1,)), (0, (1, 1))),
+    ((0, ()), (0, (0,)), (0, (1, 1))),
+    ((0, ()), (0, (0,)), (0, (0, 1))),
+    ((0, ()), (0, (0,)), (0, (0, 0))),
+)
+# points in a row: below and above, and no ring
+ROW = with_barred(ORDER, [((0, ()), (0, (0,)), (0, (1, 0)))])
+# classes of points: near are those of one class, far those of two
+CLASSES = with_barred(GRAPH, [NEAR[2]])
+# classes of at most two points
+COUPLES = with_barred(GRAPH, [NEAR[3], NEAR[2]])
+NO_TRIANGLE = with_barred(GRAPH, [NEAR[3]])
+NO_THREE = with_barred(GRAY, [NEAR[3]])
+# all points are near or all are far
+SPLIT = with_barred(GRAPH, [NEAR[2], NEAR[1]])
+# all of these always lay, but for SPLIT
+BARRED = (ROW, CLASSES, COUPLES, NO_TRIANGLE, NO_THREE, SPLIT)
 
 
 # things of the kinds that may be handed in where anything may, none of them a tuple
