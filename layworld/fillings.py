@@ -15,12 +15,13 @@ def fillings(rule, base, one, other):
 
 def barred_by(rule, base, one, other):
     """For each way, and then for "same", the number of the base's point by which it is barred; None where it fills."""
-    return way_bars(rule, barred_threes(rule), base, one, other) + (same_bar(one, other),)
+    return all_bars(rule, barred_threes(rule), base, one, other)
 
 
-def way_bars(rule, barred, base, one, other):
-    """For each way from the one to the other the first point of the base that bars it, or None."""
-    return tuple([first_bar(barred, with_both(rule, base, one, other, number)) for number in range(len(rule[1]))])
+def all_bars(rule, barred, base, one, other):
+    """As barred_by, by the barred threes of the rule."""
+    bars = [first_bar(barred, with_both(rule, base, one, other, number)) for number in range(len(rule[1]))]
+    return tuple(bars + [same_bar(one, other)])
 
 
 def with_both(rule, base, one, other, number):

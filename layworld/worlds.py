@@ -14,6 +14,11 @@ def look_world(rule, thing):
     return True
 
 
+def is_world(rule, thing):
+    """Whether it is a world of the rule."""
+    return isinstance(thing, tuple) and all([is_point(rule, point, ahead) for ahead, point in enumerate(thing)])
+
+
 def is_point(rule, thing, ahead):
     """Whether it is a point of the rule's marks and ways, with so many points ahead."""
     if not has_point_form(thing, ahead):

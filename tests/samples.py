@@ -147,8 +147,97 @@ NO_TRIANGLE = with_barred(GRAPH, [NEAR[3]])
 NO_THREE = with_barred(GRAY, [NEAR[3]])
 # all points are near or all are far
 SPLIT = with_barred(GRAPH, [NEAR[2], NEAR[1]])
+# neither three near nor three far
+PENTAGON = with_barred(GRAPH, [NEAR[3], NEAR[0]])
+# any three stand in a ring
+RINGED = with_barred(ORDER, [((0, ()), (0, (0,)), (0, (0, 0)))])
 # all of these always lay, but for SPLIT
 BARRED = (ROW, CLASSES, COUPLES, NO_TRIANGLE, NO_THREE, SPLIT)
+
+
+def barred_where(rule, wrong):
+    """The rule with all figures barred that are wrong; wrong is asked with all marks and the ways of all pairs."""
+    barred = []
+    for figure in slow_figures(rule):
+        ways = {(i, j): slow_way(rule, figure, i, j) for i, j in itertools.permutations(range(3), 2)}
+        if wrong([point[0] for point in figure], ways):
+            barred.append(figure)
+    return with_barred(rule, barred)
+
+
+def not_through(way):
+    """Wrong where a point stands so to a second one, this to a third one, but the first not to the third."""
+    def wrong(marks, ways):
+        orders = itertools.permutations(range(3))
+        return any(ways[i, j] == way and ways[j, k] == way and ways[i, k] != way for i, j, k in orders)
+    return wrong
+
+
+def either(*tests):
+    return lambda marks, ways: any(test(marks, ways) for test in tests)
+
+
+# two marks, and below and above as in any order in which points may also stand beside one another
+BESIDE = barred_where(MIXED, not_through(1))
+# two marks, classes of near points, and classes of near or middling ones
+NESTED = barred_where(shaped(2, (0, 1, 2)), either(
+    not_through(0),
+    lambda marks, ways: any(max(ways[i, j], ways[j, k]) < 2 == ways[i, k] for i, j, k in itertools.permutations(range(3))),
+))
+# three marks, all in one row
+COLOURED_ROW = barred_where(COLOURS, not_through(0))
+
+
+class Table:
+    """A world kept as a table of all pairs of points: another way to lay points to one another, by the words."""
+
+    def __init__(self, rule, world=()):
+        self.rule = rule
+        self.marks = []
+        self.ways = {}
+        self.barred = set()
+        for figure in rule[2]:
+            for order in itertools.permutations(range(3)):
+                self.barred.add(slow_part(rule, figure, order))
+        for mark, ways in world:
+            self.add(mark, dict(enumerate(ways)))
+
+    def add(self, mark, ways):
+        point = len(self.marks)
+        self.marks.append(mark)
+        for other, way in ways.items():
+            self.ways[point, other] = way
+            self.ways[other, point] = self.rule[1][way][1]
+
+    def world(self):
+        sizes = range(len(self.marks))
+        return tuple((self.marks[i], tuple(self.ways[i, j] for j in range(i))) for i in sizes)
+
+    def bars(self, known, mark, there, way):
+        """Whether a new point that stands in this way to one there, and as known to others, is in a barred three."""
+        for point, own in known.items():
+            ahead = ((self.marks[point], ()), (self.marks[there], (self.ways[there, point],)))
+            if ahead + ((mark, (own, way)),) in self.barred:
+                return True
+        return False
+
+    def is_like(self, known, mark, there):
+        return self.marks[there] == mark and all(self.ways[there, point] == way for point, way in known.items())
+
+    def lay(self, known, mark, order):
+        """The place of a point with this mark and these ways, new or one that is there; a list of one where none is."""
+        known = dict(known)
+        for there in range(len(self.marks)):
+            if there not in known:
+                fills = [way for way in order if not self.bars(known, mark, there, way)]
+                if fills:
+                    known[there] = fills[0]
+                elif self.is_like(known, mark, there):
+                    return there
+                else:
+                    return [there]
+        self.add(mark, known)
+        return len(self.marks) - 1
 
 
 # things of the kinds that may be handed in where anything may, none of them a tuple

@@ -135,6 +135,33 @@ class Language(unittest.TestCase):
         if isinstance(node, ast.Attribute):
             self.assertTrue(node.attr in METHODS | {"__init__"} or node.attr not in PYTHONS_OWN | UNUSED)
 
+    def test_methods_and_values_of_objects(self):
+        methods = set()
+        values = set()
+        for path, text in sources():
+            for node in ast.walk(ast.parse(text)):
+                if isinstance(node, ast.ClassDef):
+                    own = [held.name for held in node.body if isinstance(held, ast.FunctionDef)]
+                    self.assertEqual(len(set(own)), len(own))
+                    methods |= set(own)
+                if isinstance(node, ast.Attribute) and isinstance(node.ctx, ast.Store):
+                    values.add(node.attr)
+        self.assertEqual(methods & values, set())
+        self.assertEqual(values & PYTHONS_OWN, set())
+
+    def test_walked_at_once(self):
+        self.each_node(self.walked_held)
+
+    def walked_held(self, node):
+        fleeting = ("zip", "enumerate", "reversed", "range", "map", "filter", "set")
+        kept = (ast.Assign, ast.Return, ast.List, ast.Tuple, ast.Dict, ast.Subscript, ast.Attribute)
+        if isinstance(node, kept):
+            for held in ast.iter_child_nodes(node):
+                if isinstance(held, ast.Call) and isinstance(held.func, ast.Name):
+                    self.assertNotIn(held.func.id, fleeting)
+                if isinstance(held, ast.Call) and isinstance(held.func, ast.Attribute):
+                    self.assertNotIn(held.func.attr, ("items", "keys", "values"))
+
     def test_top_of_files(self):
         kinds = (ast.Expr, ast.ImportFrom, ast.FunctionDef, ast.ClassDef, ast.Assign)
         for path, text in sources():
