@@ -1,5 +1,6 @@
 """Whether a rule always lays, and lays apart."""
 
+from layworld.errors import NoRule
 from layworld.fillings import all_bars, barred_by
 from layworld.kinds import is_tuple_of
 from layworld.threes import barred_threes, first_bar, first_barred, wishes_over
@@ -9,6 +10,12 @@ from layworld.worlds import is_point, is_world
 def unlaid(rule):
     """None where the rule always lays, else a base and two wishes over it that have no filling."""
     return first_unfilled(rule, len(rule[1]) + 1)
+
+
+def must_lay(rule):
+    """NoRule where the rule doesn't always lay."""
+    if unlaid(rule) is not None:
+        raise NoRule("lays")
 
 
 def put_on(rule):

@@ -1,6 +1,6 @@
 """The world of a rule, grown wish by wish."""
 
-from layworld.always import unlaid
+from layworld.always import must_lay
 from layworld.errors import NoRule, NoWish
 from layworld.kinds import is_numbers
 from layworld.laying import point_behind, spread_wish
@@ -13,8 +13,7 @@ class Growth:
     """A world that is grown by a rule that always lays; new points try the ways in the order told."""
 
     def __init__(self, rule, order):
-        if unlaid(rule) is not None:
-            raise NoRule("lays")
+        must_lay(rule)
         if not is_order(rule, order):
             raise NoRule("order")
         self.rule = rule

@@ -242,3 +242,214 @@ class Table:
 
 # things of the kinds that may be handed in where anything may, none of them a tuple
 NO_TUPLES = (None, True, False, 0, 1, -1, 3, "", "a", "marks", [], [()], [(), (), ()], ["a"])
+
+
+def slow_free(sentence, row):
+    """The free names of the row, a set, by the words."""
+    told = sentence[row]
+    if told[0] in ("same", "way"):
+        return {told[1], told[2]}
+    if told[0] == "mark":
+        return {told[1]}
+    if told[0] in ("some", "each"):
+        return slow_free(sentence, told[2]) - {told[1]}
+    return set().union(*[slow_free(sentence, part) for part in told[1:]])
+
+
+def slow_text(rule, sentence, row):
+    """The text of the row, by the words."""
+    told = sentence[row]
+    if told[0] == "same":
+        return f"{told[1]} is {told[2]}"
+    if told[0] == "mark":
+        return f"{told[1]} : {rule[0][told[2]]}"
+    if told[0] == "way":
+        return f"{told[1]} {rule[1][told[3]][0]} {told[2]}"
+    if told[0] == "not":
+        return f"not {slow_text(rule, sentence, told[1])}"
+    if told[0] in ("some", "each"):
+        return f"{told[0]} {told[1]} {slow_text(rule, sentence, told[2])}"
+    return f"({slow_text(rule, sentence, told[1])} {told[0]} {slow_text(rule, sentence, told[2])})"
+
+
+def slow_spread(sentence, row):
+    """The rows of which the row is put together, none shared: first those of its parts, each as often as it stands."""
+    told = sentence[row]
+    rows = []
+    ends = []
+    for part in slow_parts(told):
+        ahead = len(rows)
+        for held in slow_spread(sentence, part):
+            own = slow_parts(held)
+            rows.append(held[:len(held) - len(own)] + tuple(number + ahead for number in own))
+        ends.append(len(rows) - 1)
+    return tuple(rows) + (told[:len(told) - len(ends)] + tuple(ends),)
+
+
+def slow_parts(told):
+    """The numbers of the rows that are the told row's parts."""
+    return {"not": told[1:], "and": told[1:], "or": told[1:], "some": told[2:], "each": told[2:]}.get(told[0], ())
+
+
+def mixed_sentence(rule, seed, size, free=3, names="xyz"):
+    """A sentence of at least so many rows, with at most so many free names, mixed by the seed, the same each time.
+
+    At most three names are free or bound within one another in any row.
+    """
+    chance = random.Random(seed)
+    rows = []
+    while len(rows) < size or len(slow_free(rows, len(rows) - 1)) > free:
+        left = sorted(slow_free(rows, len(rows) - 1)) if len(rows) >= size else list(names)
+        row = mixed_row(rule, chance, len(rows), left, len(rows) >= size)
+        if slow_depth(rows + [row], len(rows)) + len(slow_free(rows + [row], len(rows))) <= 3:
+            rows.append(row)
+    return tuple(rows)
+
+
+def mixed_row(rule, chance, ahead, names, binds):
+    def one_of(things):
+        return things[int(chance.random() * len(things))]
+
+    if binds:
+        return (one_of(("some", "each")), one_of(names), ahead - 1)
+    # one part is the row that came last, so that rows are put together in many steps
+    late = [ahead - 1, int(chance.random() * ahead)]
+    if chance.random() < 0.5:
+        late = late[::-1]
+    plain = ("same", "mark", "way", "way")
+    kind = one_of(plain if ahead < 4 else plain + ("not", "and", "or", "some", "each") * 4)
+    one = one_of(names)
+    # two names that are the same say little
+    other = one_of(names) if chance.random() < 0.2 else one_of([name for name in names if name != one])
+    if kind == "same":
+        return (kind, one, other)
+    if kind == "mark":
+        return (kind, one, int(chance.random() * len(rule[0])))
+    if kind == "way":
+        return (kind, one, other, int(chance.random() * len(rule[1])))
+    if kind in ("some", "each"):
+        return (kind, one, max(late))
+    return (kind, max(late)) if kind == "not" else (kind,) + tuple(late)
+
+
+def slow_depth(sentence, row):
+    """How many names are bound within one another in the row."""
+    told = sentence[row]
+    parts = [slow_depth(sentence, part) for part in slow_parts(told)]
+    return max(parts, default=0) + (told[0] in ("some", "each"))
+
+
+def slow_standing(rule, world, places, names):
+    """The standing of these names by their places in the world, a dict, by the words."""
+    points = list(dict.fromkeys(places[name] for name in sorted(names)))
+    return (slow_part(rule, world, points), tuple((name, points.index(places[name])) for name in sorted(names)))
+
+
+def slow_standings(rule, names):
+    """All standings of the names, sorted: all worlds that may stand, all ways to name their points."""
+    found = set()
+    for size in range(len(names) + 1):
+        for world in standing_worlds(rule, size):
+            for points in itertools.product(range(size), repeat=len(names)):
+                if sorted(set(points)) == list(range(size)):
+                    found.add(slow_standing(rule, world, dict(zip(names, points)), names))
+    return sorted(found)
+
+
+@functools.lru_cache(maxsize=None)
+def kept_wishes(rule, world):
+    return tuple(slow_wishes(rule, world))
+
+
+def plain_row_holds(rule, told, world, places):
+    """Whether a same, mark or way holds of named points of a world, by the words."""
+    one = places[told[1]]
+    if told[0] == "mark":
+        return world[one][0] == told[2]
+    other = places[told[2]]
+    if told[0] == "same":
+        return one == other
+    return one != other and slow_way(rule, world, one, other) == told[3]
+
+
+def holds_in(rule, sentence, row, world, places):
+    """Whether the row holds of the named points in a world as it is, some and each of all its points."""
+    told = sentence[row]
+    if told[0] in ("same", "mark", "way"):
+        return plain_row_holds(rule, told, world, places)
+    if told[0] in ("some", "each"):
+        points = range(len(world))
+        found = [holds_in(rule, sentence, told[2], world, {**places, told[1]: point}) for point in points]
+    else:
+        found = [holds_in(rule, sentence, part, world, places) for part in told[1:]]
+    return joined(told[0], found)
+
+
+def joined(word, found):
+    return {"not": lambda: not found[0], "and": lambda: all(found), "or": lambda: any(found),
+            "some": lambda: any(found), "each": lambda: all(found)}[word]()
+
+
+class SlowJudge:
+    """Judges a sentence in a world that is grown by each name that is bound, and keeps every point that came."""
+
+    def __init__(self, rule, sentence):
+        self.rule = rule
+        self.sentence = sentence
+        self.kept = {}
+
+    def truth(self, row, world, places):
+        asked = (row, world, tuple(sorted(places.items())))
+        if asked not in self.kept:
+            self.kept[asked] = self.found(self.sentence[row], world, places)
+        return self.kept[asked]
+
+    def found(self, told, world, places):
+        if told[0] in ("same", "mark", "way"):
+            return plain_row_holds(self.rule, told, world, places)
+        if told[0] in ("some", "each"):
+            old = [self.truth(told[2], world, {**places, told[1]: point}) for point in range(len(world))]
+            new = [self.truth(told[2], world + (wish,), {**places, told[1]: len(world)})
+                   for wish in kept_wishes(self.rule, world)]
+            return joined(told[0], old + new)
+        return joined(told[0], [self.truth(part, world, places) for part in told[1:]])
+
+    def at(self, row, standing):
+        return self.truth(row, standing[0], dict(standing[1]))
+
+    def parts(self, row, standing):
+        """All (move, part, its standing), by the words."""
+        told = self.sentence[row]
+        world, places = standing[0], dict(standing[1])
+        if told[0] not in ("some", "each"):
+            return [(number, part, slow_standing(self.rule, world, places, slow_free(self.sentence, part)))
+                    for number, part in enumerate(slow_parts(told))]
+        names = slow_free(self.sentence, told[2])
+        found = [(point, told[2], slow_standing(self.rule, world, {**places, told[1]: point}, names))
+                 for point in range(len(world))]
+        for wish in kept_wishes(self.rule, world):
+            there = slow_standing(self.rule, world + (wish,), {**places, told[1]: len(world)}, names)
+            found.append((wish, told[2], there))
+        return found
+
+    def table(self):
+        """All entries that are needed, by the words, sorted."""
+        entries = {}
+        due = [(len(self.sentence) - 1, ((), ()))]
+        while due:
+            row, standing = due.pop()
+            if (row, standing) not in entries:
+                move, parts = self.shown(row, standing)
+                entries[row, standing] = (row, standing, self.at(row, standing), move)
+                due += [(part, there) for number, part, there in parts]
+        return tuple(entries[asked] for asked in sorted(entries))
+
+    def shown(self, row, standing):
+        """The move, and the parts that show the row's truth."""
+        parts = self.parts(row, standing)
+        truth = self.at(row, standing)
+        if (self.sentence[row][0], truth) in (("or", True), ("and", False), ("some", True), ("each", False)):
+            for move, part, there in parts:
+                if self.at(part, there) == truth:
+                    return move, [(move, part, there)]
+        return None, parts
