@@ -1,8 +1,9 @@
 """Standings of names: the named points and how they stand to one another; moves that name one more."""
 
-from layworld.kinds import is_whole
+from layworld.kinds import is_tuple_of, is_whole
 from layworld.parts import part
-from layworld.threes import barred_threes, wishes_over
+from layworld.threes import barred_threes, first_three, wishes_over
+from layworld.worlds import is_world
 
 # the one standing of no names
 NOBODY = ((), ())
@@ -64,3 +65,29 @@ def standing_at(rule, world, places, names):
         if places[name] not in points:
             points.append(places[name])
     return (part(rule, world, points), tuple([(name, points.index(places[name])) for name in names]))
+
+
+def is_standing(rule, barred, thing, names):
+    """Whether the thing is a standing of just these sorted names, by the barred threes of the rule."""
+    if not is_tuple_of(thing, 2) or not are_places(thing[1], names):
+        return False
+    if not is_world(rule, thing[0]) or not come_up(thing[1], len(thing[0])):
+        return False
+    return first_three(barred, thing[0]) is None
+
+
+def are_places(thing, names):
+    """Whether it is a tuple of pairs of these names, in order, and whole numbers."""
+    if not is_tuple_of(thing, len(names)) or not all([is_tuple_of(pair, 2) for pair in thing]):
+        return False
+    return all([pair[0] == name and is_whole(pair[1]) for pair, name in zip(thing, names)])
+
+
+def come_up(places, size):
+    """Whether so many points are named, each numbered as it comes up."""
+    seen = 0
+    for name, point in places:
+        if not 0 <= point <= seen:
+            return False
+        seen = max(seen, point + 1)
+    return seen == size

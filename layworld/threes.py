@@ -25,7 +25,11 @@ def three_at(world, i, j, k):
 
 def first_barred(rule, world):
     """The first three rising points whose figure is barred, or None."""
-    barred = barred_threes(rule)
+    return first_three(barred_threes(rule), world)
+
+
+def first_three(barred, world):
+    """As first_barred, by the barred threes of the rule."""
     for i in range(len(world)):
         for j in range(i + 1, len(world)):
             for k in range(j + 1, len(world)):
