@@ -12,7 +12,7 @@ from layworld.threes import first_barred
 from tests.samples import (
     BARRED, BESIDE, CLASSES, COLOURED_ROW, COUPLES, GRAPH, MIXED, NESTED, NO_THREE, NO_TRIANGLE, ORDER, PENTAGON, PLAIN,
     ROW, SPLIT, TURNED, Table,
-    all_shapes, mixed_bars, slow_part, slow_stands, slow_wishes, some_standing, some_world, standing_worlds,
+    all_shapes, mixed_bars, slow_part, slow_wishes, some_standing, some_world, standing_worlds,
 )
 
 

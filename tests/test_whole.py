@@ -24,8 +24,8 @@ from layworld.threes import first_barred, wishes
 from layworld.unbound import holds_at, unbound
 from layworld.worlds import look_world
 from tests.samples import (
-    BARRED, BESIDE, COLOURED_ROW, MIXED, NESTED, PENTAGON, PLAIN, RINGED, all_shapes, mixed_bars, mixed_sentence, shaped,
-    slow_least_form, some_standing,
+    BARRED, BESIDE, COLOURED_ROW, NESTED, PENTAGON, PLAIN, RINGED, all_shapes, mixed_bars, mixed_sentence, slow_least_form,
+    some_standing,
 )
 
 MANY = tuple(mixed_bars(shape, seed, 8 + 4 * seed) for seed, shape in enumerate(all_shapes()))
